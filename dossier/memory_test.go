@@ -72,3 +72,93 @@ func TestP2ListsHandedIn(t *testing.T) {
 	dossier.Recover(nil)
 	dossier.Audit(nil, 1<<32-1)
 }
+
+// borrowed is a text whose bytes the caller has a hand on.
+func borrowed(text string) (string, []byte) {
+	mine := []byte(text)
+	return unsafe.String(&mine[0], len(mine)), mine
+}
+
+func spoil(b []byte) {
+	b = b[:cap(b)]
+	for i := range b {
+		b[i] = '#'
+	}
+}
+
+// TestP2CaseKeepsNothing: the caller changes what was handed in, and what came out.
+func TestP2CaseKeepsNothing(t *testing.T) {
+	graph, graphBytes := borrowed(loan)
+	c, head, _ := dossier.New(graph)
+	spoil(graphBytes)
+	spoil(head)
+	k := begin(t, loan)
+	k.Case = c
+	k.expectHead()
+	k.expectEnabled("client", "apply")
+
+	role, roleBytes := borrowed("client")
+	event, eventBytes := borrowed("apply")
+	want := k.record("client", "apply", api.Accepted)
+	_, record, _ := c.Ask(role, event)
+	if string(record) != string(want) || string(roleBytes) != "client" || string(eventBytes) != "apply" {
+		t.Errorf("Ask of borrowed texts: %q, %q, %q", record, roleBytes, eventBytes)
+	}
+	spoil(roleBytes)
+	spoil(eventBytes)
+	spoil(record)
+	c.Settle()
+	k.log, k.number = append(k.log, want...), 1
+	k.expectHead()
+	k.expectMark("apply", "id")
+	k.expectMark("check", "iu")
+
+	names := k.Enabled("boss")
+	names = names[:cap(names)]
+	for i := range names {
+		names[i] = "#"
+	}
+	k.expectEnabled("boss", "check", "deny")
+	k.settled("clerk", "check", api.Accepted)
+}
+
+// TestP2NoCommonPlace: no list that came out changes by what is written into another.
+func TestP2NoCommonPlace(t *testing.T) {
+	c, head, _ := dossier.New("event a by r;")
+	_, again, _ := dossier.New("event a by r;")
+	lists := [][]byte{head, again}
+	for range 20 {
+		_, record, _ := c.Ask("r", "a")
+		c.Settle()
+		lists = append(lists, record)
+	}
+	var texts []string
+	for _, list := range lists {
+		texts = append(texts, string(list))
+	}
+	for i, list := range lists {
+		if string(list) != texts[i] {
+			t.Errorf("list %d was changed by another: %q, want %q", i, list, texts[i])
+		}
+		spoil(list)
+	}
+	one, two := c.Enabled("r"), c.Enabled("r")
+	one = append(one[:0], "#", "#")
+	if len(two) != 1 || two[0] != "a" {
+		t.Errorf("Enabled: %q changed by %q", two, one)
+	}
+}
+
+// TestP2CasesAlone: what one case is asked is nothing to another of the same graph.
+func TestP2CasesAlone(t *testing.T) {
+	one, two := begin(t, loan), begin(t, loan)
+	one.settled("client", "apply", api.Accepted)
+	one.ask("clerk", "check", api.Accepted)
+	two.expectMark("apply", "i")
+	two.expectMark("check", "i")
+	two.expectHead()
+	if e := two.Settle(); e != api.ErrIdle {
+		t.Errorf("Settle of what another case was asked: %d", e)
+	}
+	two.settled("clerk", "check", api.Blocked)
+}

@@ -55,12 +55,13 @@ type Fault struct {
 }
 
 // Read takes a graph from its text. Its Fault has the Errno OK if the text is
-// one of a graph whose written form, too, is within its bound.
+// one of a graph whose written form, too, is within its bound. The graph is cut
+// from a copy, so that it may be kept whatever becomes of the text.
 func Read(text string) (Graph, Fault) {
 	if len(text) > api.MaxText {
 		return Graph{}, Fault{Errno: api.ErrLong}
 	}
-	r := newReader(text)
+	r := newReader(strings.Clone(text))
 	r.lines()
 	if r.fault.Errno == api.OK {
 		r.fault = wrongName(r.uses)
