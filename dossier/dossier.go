@@ -95,9 +95,24 @@ func (c *Case) Accepting() bool { return c.state.Accepting() }
 func (c *Case) Head() uint32 { return c.log.Hash }
 
 // Recover takes a case up again from a log (P10).
-func Recover(log []byte) (*Case, int, api.Errno) { return nil, 0, api.OK }
+func Recover(log []byte) (*Case, int, api.Errno) {
+	c, _ := takeUp(log)
+	if c == nil {
+		return nil, 0, api.ErrLog
+	}
+	return c, c.log.Length, api.OK
+}
 
 // Audit looks a log through (P11).
 func Audit(log []byte, head uint32) (api.Report, int, api.Errno) {
-	return api.Report{}, 0, api.OK
+	c, report := takeUp(log)
+	switch {
+	case c == nil:
+		return api.Report{}, 0, api.ErrLog
+	case c.log.Length != len(log):
+		return api.Report{}, c.log.Length, api.ErrLog
+	case c.Head() != head:
+		return api.Report{}, len(log), api.ErrHead
+	}
+	return report, len(log), api.OK
 }

@@ -1,9 +1,12 @@
 package dossier_test
 
 import (
+	"bytes"
+	"runtime"
 	"strings"
 	"sync"
 	"testing"
+	"time"
 	"unsafe"
 
 	"dossier/api"
@@ -57,7 +60,11 @@ func TestP2NothingKept(t *testing.T) {
 
 // TestP2ListsHandedIn: no call writes into a list, nor into its spare room; and none panics (P1).
 func TestP2ListsHandedIn(t *testing.T) {
-	for _, text := range []string{"", "D1", "D1\x00\x00", "D1\xff\xff" + loanWritten, strings.Repeat("R", api.MaxLog+1)} {
+	log := loanLog(t).log
+	for _, text := range []string{
+		"", "D1", "D1\x00\x00", "D1\xff\xff" + loanWritten, strings.Repeat("R", api.MaxLog+1),
+		string(log), string(log[:len(log)-1]), string(log) + "R", string(headRecord("event b by c; event a by c;")),
+	} {
 		whole := []byte(text + "spare room")
 		list := whole[:len(text)]
 		dossier.Hash(list)
@@ -161,4 +168,60 @@ func TestP2CasesAlone(t *testing.T) {
 		t.Errorf("Settle of what another case was asked: %d", e)
 	}
 	two.settled("clerk", "check", api.Blocked)
+}
+
+// TestP2LogKeepsNothing: the caller changes a log behind Recover, and asks on.
+func TestP2LogKeepsNothing(t *testing.T) {
+	k := loanLog(t)
+	mine := append(bytes.Clone(k.log), "half a record"...)
+	c, _, _ := dossier.Recover(mine)
+	spoil(mine)
+	again := &kept{Case: c, t: t, log: bytes.Clone(k.log), number: k.number}
+	again.expectHead()
+	again.expectMark("check", "id")
+	again.expectEnabled("client", "apply")
+	again.settled("client", "apply", api.Accepted)
+	again.settled("boss", "pay", api.Blocked)
+	expectEnd(t, again.log, len(again.log))
+}
+
+// TestP2LogAtOneTime: a log that is read at several places at one time.
+func TestP2LogAtOneTime(t *testing.T) {
+	k := loanLog(t)
+	head := k.Head()
+	var all sync.WaitGroup
+	for range 8 {
+		all.Go(func() {
+			for n := range k.log {
+				dossier.Recover(k.log[:n])
+				if _, n, e := dossier.Audit(k.log, head); n != len(k.log) || e != api.OK {
+					t.Errorf("Audit at the same time as others: %d, %d", n, e)
+				}
+			}
+		})
+	}
+	all.Wait()
+}
+
+// TestP1NothingRunsOn: no goroutine is left of calls, whatever they were given.
+func TestP1NothingRunsOn(t *testing.T) {
+	before := runtime.NumGoroutine()
+	full := begin(t, "")
+	full.fill(api.MaxLog)
+	wrong := bytes.Clone(full.log)
+	wrong[8] = 'S'
+	for _, log := range [][]byte{nil, headRecord(""), full.log, wrong, append(headRecord(""), make([]byte, 1<<24)...)} {
+		for range 50 {
+			dossier.Recover(log)
+			dossier.Audit(log, 0)
+		}
+	}
+	// One that has closed its channel may need a moment to be gone.
+	for range 1000 {
+		if runtime.NumGoroutine() <= before {
+			return
+		}
+		time.Sleep(time.Millisecond)
+	}
+	t.Errorf("%d goroutines, and %d at first", runtime.NumGoroutine(), before)
 }

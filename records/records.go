@@ -9,6 +9,13 @@ const (
 	recordMark = "R"
 )
 
+// How many bytes a record has beside its texts.
+const (
+	aheadOfTexts = 9 // the mark, the number, the hash of the record before
+	behindTexts  = 5 // the verdict, the hash
+	shortest     = aheadOfTexts + 2 + behindTexts
+)
+
 // Hash is a number out of bytes.
 func Hash(b []byte) uint32 {
 	h := uint32(7)
